@@ -13,6 +13,8 @@ type node struct {
 	place  int    // in the forest's list
 	ends   int    // how many ends of edges it is: two of one that leads to itself
 	steps  []step // those from it, in no order
+	come   states // in which a search has come to it; none between searches
+	fresh  states // those of these from which steps weren't gone yet
 }
 
 // step leads from one node to another by a symbol that stands in the path: it is an edge, gone or gone back.

@@ -20,6 +20,9 @@ func wellBuilt(t *testing.T, f *Forest) {
 		if x.place != i || f.nodes[x.number] != x || x.ends < 1 {
 			t.Fatalf("P11.2: node %d at %d", x.number, i)
 		}
+		if !x.come.none() || !x.fresh.none() {
+			t.Fatalf("P11.2: a search has left its marks at node %d", x.number)
+		}
 		ends += x.ends
 		for _, s := range x.steps {
 			steps++
@@ -59,6 +62,12 @@ func TestWellBuilt(t *testing.T) {
 			wellBuilt(t, f)
 			if random.Intn(3) == 0 {
 				f.Expire(now - random.Intn(3))
+				wellBuilt(t, f)
+			}
+			if random.Intn(3) == 0 {
+				f.From(random.Intn(6))
+				f.Has(random.Intn(6), random.Intn(6))
+				f.Pairs()
 				wellBuilt(t, f)
 			}
 		}

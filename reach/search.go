@@ -5,13 +5,12 @@ import (
 	"slices"
 )
 
-// search looks for all that walks from one node come to: nodes, and states of the machine there.
+// search looks for all that walks from one node come to: nodes, and states of the machine there. It marks the nodes themselves, so that it takes no longer than what it comes to asks for, however many nodes there are.
 type search struct {
 	*Forest
-	level int      // steps that last until below it aren't gone yet
-	come  []states // by nodes' places: in which states they were come to
-	fresh []states // those of these from which steps weren't gone yet
-	todo  []*node  // the nodes that have such
+	level int     // steps that last until below it aren't gone yet
+	todo  []*node // the nodes that have fresh states
+	met   []*node // those that were come to
 	found []found
 }
 
@@ -21,19 +20,15 @@ type found struct {
 	until int
 }
 
-// search answers one that hasn't begun.
-func (f *Forest) search() *search {
-	return &search{Forest: f, come: make([]states, len(f.list)), fresh: make([]states, len(f.list))}
-}
-
 // reached answers the nodes that one is paired with, however long the pairs last.
 func (f *Forest) reached(number int) []found {
 	x := f.nodes[number]
 	if x == nil {
 		return nil
 	}
-	s := f.search()
+	s := search{Forest: f}
 	s.begin(x, earliest)
+	s.end()
 	return s.found
 }
 
@@ -49,19 +44,26 @@ func (f *Forest) falling() []step {
 
 // begin comes to a node without a step, and goes on by all steps of a level.
 func (s *search) begin(x *node, level int) {
-	clear(s.come)
 	s.found = nil
 	s.level = level
 	s.arrive(x, setOf(s.Begin()))
 	s.goOn()
 }
 
+// end takes all marks away, so that another search may begin.
+func (s *search) end() {
+	for _, x := range s.met {
+		x.come = states{}
+	}
+	s.met = s.met[:0]
+}
+
 // fall lowers the level step by step. A node is come to in a state at the first level that lets it be, so that the level tells how long the walk lasts that lasts longest.
 func (s *search) fall(steps []step) {
 	for _, x := range steps {
-		if come := s.come[x.from.place]; !come.none() {
+		if !x.from.come.none() {
 			s.level = x.until
-			s.take(x, come)
+			s.take(x, x.from.come)
 			s.goOn()
 		}
 	}
@@ -73,8 +75,8 @@ func (s *search) goOn() {
 		last := len(s.todo) - 1
 		x := s.todo[last]
 		s.todo = s.todo[:last]
-		fresh := s.fresh[x.place]
-		s.fresh[x.place] = states{}
+		fresh := x.fresh
+		x.fresh = states{}
 		for _, y := range x.steps {
 			if y.until >= s.level {
 				s.take(y, fresh)
@@ -88,17 +90,19 @@ func (s *search) take(x step, from states) { s.arrive(x.to, from.next(s.moves[x.
 
 // arrive comes to a node in some states.
 func (s *search) arrive(x *node, in states) {
-	come, fresh := s.come[x.place], s.fresh[x.place]
-	in = in.but(come)
+	in = in.but(x.come)
 	if in.none() {
 		return
 	}
-	if in.meets(s.final) && !come.meets(s.final) {
+	if in.meets(s.final) && !x.come.meets(s.final) {
 		s.found = append(s.found, found{node: x, until: s.level})
 	}
-	if fresh.none() {
+	if x.come.none() {
+		s.met = append(s.met, x)
+	}
+	if x.fresh.none() {
 		s.todo = append(s.todo, x)
 	}
-	s.come[x.place] = come.and(in)
-	s.fresh[x.place] = fresh.and(in)
+	x.come = x.come.and(in)
+	x.fresh = x.fresh.and(in)
 }

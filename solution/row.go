@@ -4,6 +4,8 @@ import (
 	"cmp"
 	"slices"
 	"strconv"
+
+	"beck/match"
 )
 
 // rising puts vars together, each once.
@@ -13,43 +15,18 @@ func rising(lists ...[]string) []string {
 	return slices.Compact(vars)
 }
 
-// columns tells where vars stand first in a list, -1 of those that don't.
-func columns(vars, in []string) []int {
-	first := map[string]int{}
-	for column, v := range slices.Backward(in) {
-		first[v] = column
-	}
-	l := make([]int, 0, len(vars))
-	for _, v := range vars {
-		column, there := first[v]
-		if !there {
-			column = -1
-		}
-		l = append(l, column)
-	}
-	return l
-}
-
-// number answers what stands in a column of a row; there is nothing beyond its end.
-func number(row []int, column int) int {
-	if column < 0 || column >= len(row) {
-		return -1
-	}
-	return max(row[column], -1)
-}
-
 // maker answers a closure that makes a row of vars out of rows, one of each of some lists of vars: a var has the number of the first one in which it stands for something.
 func maker(vars []string, lists ...[]string) func(rows ...[]int) []int {
 	var from [][]int
 	for _, list := range lists {
-		from = append(from, columns(vars, list))
+		from = append(from, match.Columns(vars, list))
 	}
 	return func(rows ...[]int) []int {
 		made := slices.Repeat([]int{-1}, len(vars))
 		for i, row := range rows {
 			for place, column := range from[i] {
 				if made[place] < 0 {
-					made[place] = number(row, column)
+					made[place] = match.Number(row, column)
 				}
 			}
 		}
